@@ -1,0 +1,1 @@
+"""Fullbelts: how few rooms a program needs when results stand on belts."""
