@@ -5,8 +5,11 @@ import random
 import re
 from itertools import product
 
+from fullbelts.codes import Code
 from fullbelts.errors import BadProgram, NoName
+from fullbelts.machines import Machine
 from fullbelts.programs import Program
+from fullbelts.runs import Run
 
 S_STEPS = (
     ("make", "x", (), 1), ("make", "y", (), 2), ("test", "x", (3, 6)), ("make", "t", ("x",), 4),
@@ -24,6 +27,12 @@ def s():
 
 def forms():
     return Program(FORMS_STEPS)
+
+
+def c():
+    """A right code for s on one belt of two rooms."""
+    rooms = {place: ((0, 1),) for place in range(2, 7)}
+    return Code(s(), Machine((2,)), {**rooms, 7: ((0, 0),)}, {0: 0, 1: 0, 3: 0, 4: 0, 5: 0}, {})
 
 
 def ring(many):
@@ -54,7 +63,9 @@ def plain_things():
 
 def odd_things():
     """Things of all kinds that may be handed in where a thing is judged."""
-    own = [s(), BadProgram("steps"), NoName("x"), BadProgram, Program, (s(), s()), [s()], {0: s()}, (s(), (0,))]
+    own = [s(), BadProgram("steps"), NoName("x"), BadProgram, Program, (s(), s()), [s()], {0: s()}, (s(), (0,)),
+           Machine((2,)), Machine, c(), Code, Run(s()), Run, Run(s()).go, (Machine((1, 1)), c()), {(0, 0): c()},
+           {Run(s()): 0}, [Run(s())]]
     passing = [
         object(), object, iter([0]), iter((0,)), (number for number in (0,)), zip((0,), (0,)), map(len, ()),
         enumerate((0,)), reversed((0,)), {0: 0}.keys(), {0: 0}.values(), {0: 0}.items(), memoryview(b"x"),

@@ -2,10 +2,13 @@
 
 import unittest
 
+from fullbelts.machines import carried, put
 from fullbelts.programs import Program
+from fullbelts.refuting import refutation
+from fullbelts.tables import table
 from fullbelts.wants import need, wanted
 from fullbelts.webs import faults
-from samples import s
+from samples import c, s
 
 
 class Examples(unittest.TestCase):
@@ -17,6 +20,14 @@ class Examples(unittest.TestCase):
     def test_e02(self):
         program = Program((("test", "x", (1, 2)), ("make", "x", (), 2), ("tell", "x", 3), ("end",)))
         self.assertEqual(faults(program), [(0, "x"), (2, "x")])
+
+    def test_e03(self):
+        self.assertEqual(put((("y", "x"), (None,)), 0, "t"), (("t", "y"), (None,)))
+        self.assertEqual(carried((("y", "x"), (None,)), [((0, 1), 0), ((0, 0), 1)]), (("x", "y"), ("x",)))
+
+    def test_e04(self):
+        self.assertEqual(table(c())[2], (("y", "x"),))
+        self.assertIsNone(refutation(c()))
 
 
 if __name__ == "__main__":

@@ -12,7 +12,12 @@ FOLDER = os.path.dirname(os.path.abspath(fullbelts.__file__))
 INTERFACE = {
     "programs": {"Program": ()},
     "webs": {"goal": 2, "led": 3, "reached": 1, "faults": 1, "route_to": 2, "fault_route": 3, "is_fault_route": 4},
-    "wants": {"wanted": 1, "want_route": 3, "is_want_route": 4, "load": 2, "need": 1}}
+    "wants": {"wanted": 1, "want_route": 3, "is_want_route": 4, "load": 2, "need": 1},
+    "runs": {"Run": ("has", "route", "told", "go", "back", "copy", "trying")},
+    "machines": {"Machine": (), "empty": 1, "put": 3, "carried": 2},
+    "codes": {"Code": ()},
+    "tables": {"table": 1, "is_table": 2},
+    "refuting": {"refutation": 1, "is_refutation": 2}}
 
 LIBRARY = {"heapq", "math", "itertools", "collections", "__future__"}
 
