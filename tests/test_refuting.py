@@ -83,6 +83,17 @@ class Refutations(unittest.TestCase):
         self.assertIs(is_refutation(code, ((0,), 1)), True)
         self.assertIs(is_refutation(code, ((0,), 0)), False)
 
+    def test_right_straight_on_and_wrong_by_a_detour(self):
+        # Behind the make all is right; only round the ring, some steps back, y takes the room of x.
+        program = Program((("make", "w", (), 1), ("make", "x", (), 2), ("test", "x", (3, 6)), ("make", "y", (), 4),
+                           ("go", 5), ("go", 2), ("tell", "w", 7), ("end",)))
+        for lengths, belts in (((1, 1), {0: 1, 1: 0, 3: 0}), ((1, 2), {0: 1, 1: 0, 3: 0})):
+            code = Code(program, Machine(lengths), {2: ((0, 0),), 6: ((1, 0),)}, belts, {})
+            found = refutation(code)
+            self.assertTrue(refutes(code, found))
+            self.assertIs(is_refutation(code, ((0, 0), 0)), False)
+            self.assertIs(is_refutation(code, ((0,) * 6, 0)), True)
+
     def test_one_way_of_some_that_are_alike(self):
         program = Program((("make", "x", (), 1), ("test", "x", (2, 2, 2)), ("tell", "x", 3), ("end",)))
         code = Code(program, Machine((1, 1)), {1: ((0, 0),), 2: ((0, 0),)}, {0: 0}, {(1, 1): (((1, 0), 0),)})
