@@ -78,21 +78,27 @@ def carries_fit(program, machine, thing):
     return all([isinstance(row, tuple) and are_carries(machine.belts, row) for row in thing.values()])
 
 
-def flows(code):
-    """For each way the tuple that tells from where each room of its goal has its item.
+def flow_on(machine, belt, carries):
+    """The tuple that tells from where each room behind a way has its item.
 
     Rooms are told by their numbers, counted belt by belt; MADE stands for what
-    the step made. So a way that is gone often has its carries done only once.
+    the step made and put in at the belt, which is None if it makes nothing. So
+    a way that is gone often has its carries done only once.
     """
+    holding = shaped(machine, list(range(machine.size)))
+    if belt is not None:
+        holding = pushed(holding, belt, MADE)
+    return flat(moved(holding, carries))
+
+
+def flows(code):
+    """For each way what flow_on tells of it."""
     belts = code.belts
     carries = code.carries
     found = {}
     for place, step in enumerate(code.program.steps):
-        holding = shaped(code.machine, list(range(code.machine.size)))
-        if place in belts:
-            holding = pushed(holding, belts[place], MADE)
         for number in range(len(goals_of(step))):
-            found[(place, number)] = flat(moved(holding, carries.get((place, number), ())))
+            found[(place, number)] = flow_on(code.machine, belts.get(place), carries.get((place, number), ()))
     return found
 
 

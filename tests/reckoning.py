@@ -38,11 +38,15 @@ def rooms_of(machine):
 def passed(code, way, holding):
     """What a holding of names becomes on a way, with None for results that their names have no more."""
     step = code.program.steps[way[0]]
-    rows = rows_of(holding)
-    if step[0] == "make":
-        rows = [[None if item == step[1] else item for item in row] for row in rows]
-        put_in(rows, code.belts[way[0]], step[1])
+    rows = rows_of(passed_in(step, holding, code.belts[way[0]]) if step[0] == "make" else holding)
     carry(rows, code.carries.get(way, ()))
+    return holding_of(rows)
+
+
+def passed_in(step, holding, belt):
+    """What a holding of names becomes when a make puts its name in at the belt."""
+    rows = [[None if item == step[1] else item for item in row] for row in holding]
+    put_in(rows, belt, step[1])
     return holding_of(rows)
 
 

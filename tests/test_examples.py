@@ -2,10 +2,13 @@
 
 import unittest
 
+from fullbelts.lots import lots
 from fullbelts.machines import carried, put
+from fullbelts.pieces import heirs, pieces
 from fullbelts.programs import Program
 from fullbelts.refuting import refutation
 from fullbelts.tables import table
+from fullbelts.walks import renamings
 from fullbelts.wants import need, wanted
 from fullbelts.webs import faults
 from samples import c, s
@@ -28,6 +31,14 @@ class Examples(unittest.TestCase):
     def test_e04(self):
         self.assertEqual(table(c())[2], (("y", "x"),))
         self.assertIsNone(refutation(c()))
+
+    def test_e05(self):
+        self.assertEqual(pieces(s()), [[2, 3, 4, 5, 6]])
+        self.assertEqual(heirs(s(), (3, 0)), {"x": "t", "y": "y"})
+
+    def test_e06(self):
+        self.assertEqual(renamings(s(), 0), [("x", "y"), ("y", "x")])
+        self.assertEqual(lots(s(), 0), [(("x", "y"), 2, True)])
 
 
 if __name__ == "__main__":

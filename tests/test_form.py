@@ -17,7 +17,11 @@ INTERFACE = {
     "machines": {"Machine": (), "empty": 1, "put": 3, "carried": 2},
     "codes": {"Code": ()},
     "tables": {"table": 1, "is_table": 2},
-    "refuting": {"refutation": 1, "is_refutation": 2}}
+    "refuting": {"refutation": 1, "is_refutation": 2},
+    "steppers": {"Stepper": ("route", "holding", "wrong", "go", "back", "copy", "trying")},
+    "pieces": {"heirs": 2, "pieces": 1},
+    "walks": {"renaming": 3, "walk_end": 3, "renamings": 2, "ring_for": 3},
+    "lots": {"lots": 2, "deal": 3}}
 
 LIBRARY = {"heapq", "math", "itertools", "collections", "__future__"}
 
