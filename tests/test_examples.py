@@ -2,16 +2,24 @@
 
 import unittest
 
+from fullbelts.counting import many_seatings
+from fullbelts.denials import is_denial
 from fullbelts.lots import lots
-from fullbelts.machines import carried, put
+from fullbelts.machines import Machine, carried, put
 from fullbelts.pieces import heirs, pieces
 from fullbelts.programs import Program
 from fullbelts.refuting import refutation
+from fullbelts.seatings import seating
+from fullbelts.shapes import shapes
 from fullbelts.tables import table
+from fullbelts.verdicts import enough
 from fullbelts.walks import renamings
 from fullbelts.wants import need, wanted
 from fullbelts.webs import faults
 from samples import c, s
+
+TWO = Machine((2,))
+PLAIN = Machine((1, 1))
 
 
 class Examples(unittest.TestCase):
@@ -39,6 +47,22 @@ class Examples(unittest.TestCase):
     def test_e06(self):
         self.assertEqual(renamings(s(), 0), [("x", "y"), ("y", "x")])
         self.assertEqual(lots(s(), 0), [(("x", "y"), 2, True)])
+
+    def test_e07(self):
+        self.assertIs(enough(s(), TWO), True)
+        self.assertIs(enough(s(), PLAIN), False)
+        self.assertIs(enough(s(), Machine((1, 1, 1))), True)
+
+    def test_e08(self):
+        self.assertIn(seating(s(), TWO)[2], ((("x", "y"),), (("y", "x"),)))
+        self.assertEqual(many_seatings(s(), TWO, 0), 1)
+
+    def test_e09(self):
+        ring = ((2, 0, True), (3, 0, True), (4, 0, True), (5, 0, True))
+        self.assertIs(is_denial(s(), PLAIN, ("rings", 2, (ring,))), True)
+
+    def test_e10(self):
+        self.assertEqual(shapes(s()), [(2,)])
 
 
 if __name__ == "__main__":

@@ -21,7 +21,12 @@ INTERFACE = {
     "steppers": {"Stepper": ("route", "holding", "wrong", "go", "back", "copy", "trying")},
     "pieces": {"heirs": 2, "pieces": 1},
     "walks": {"renaming": 3, "walk_end": 3, "renamings": 2, "ring_for": 3},
-    "lots": {"lots": 2, "deal": 3}}
+    "lots": {"lots": 2, "deal": 3},
+    "seatings": {"seating": 2, "is_seating": 3},
+    "counting": {"many_seatings": 3, "seating_at": 4},
+    "denials": {"denial": 2, "is_denial": 3},
+    "verdicts": {"enough": 2},
+    "shapes": {"shapes": 1, "fewest_belts": 1, "over": 2, "parting": 2}}
 
 LIBRARY = {"heapq", "math", "itertools", "collections", "__future__"}
 

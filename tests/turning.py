@@ -1,12 +1,10 @@
-"""Slow but plain reckonings of all that hangs on full places, after the words of the document."""
+"""All that hangs on full places, reckoned slowly and plainly, after the words of the document."""
 
 from itertools import permutations, product
 
 from samples import all_loads, all_wants, goals, raised, reached_places
 
-# The reckonings below follow the words of the document, without thought of the time that they take. What is
-# reckoned once for a program is kept, so that nobody may change it.
-
+# What is reckoned for a program is kept: nobody may change it.
 KEPT = {}
 
 
@@ -20,8 +18,12 @@ def kept(call):
 
 
 @kept
+def slow_loads(program):
+    return all_loads(program)
+
+
 def slow_need(program):
-    return max(all_loads(program).values())
+    return max(slow_loads(program).values())
 
 
 @kept
@@ -201,8 +203,8 @@ def slow_is_denial(program, machine, thing):
     if type(thing) is not tuple or len(thing) not in (2, 3) or type(thing[0]) is not str:
         return False
     if len(thing) == 2:
-        loads = all_loads(program)
-        return thing[0] == "place" and type(thing[1]) is int and loads.get(thing[1], 0) > machine.size
+        load = slow_loads(program).get(thing[1], 0) if type(thing[1]) is int else 0
+        return thing[0] == "place" and load > machine.size
     kind, place, walks = thing
     if kind != "rings" or machine.size != slow_need(program) or type(place) is not int:
         return False
