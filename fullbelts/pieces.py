@@ -1,9 +1,9 @@
 """Full places and ways, the heirs of their names, and the pieces that hang together."""
 
-from fullbelts.errors import NotFull, NoWay, OtherSize
+from fullbelts.errors import NotFull, OtherSize
 from fullbelts.programs import goals_of, made_by
 from fullbelts.wants import need, wanted
-from fullbelts.webs import goal, is_way, reached
+from fullbelts.webs import goal, reached
 
 
 def check_size(program, machine):
@@ -21,15 +21,14 @@ def full_names(program):
 def heirs_on(step, names, names_ahead):
     """The dict from the names to their heirs, for a full way from the place of the step."""
     made = made_by(step)
-    return {name: name if name != made and name in names_ahead else made for name in names}
+    # Only the made name may be left though it is wanted ahead: then it is its own heir all the same.
+    return {name: name if name in names_ahead else made for name in names}
 
 
 def heirs(program, way):
     """The dict from the names that are wanted at the place of a full way to their heirs."""
-    if not is_way(program, way):
-        raise NoWay()
-    full = full_names(program)
     ahead = goal(program, way)
+    full = full_names(program)
     if way[0] not in full or ahead not in full:
         raise NotFull()
     return heirs_on(program.steps[way[0]], full[way[0]], full[ahead])

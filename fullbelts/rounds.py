@@ -6,7 +6,7 @@ from math import factorial
 
 def are_alike(one, other):
     """Whether two rounds are one another turned."""
-    if len(one) != len(other) or one[0] not in other:
+    if one[0] not in other:
         return False
     at = other.index(one[0])
     return other[at:] + other[:at] == one
