@@ -88,6 +88,10 @@ class Tree:
         """The list of the full ways of the piece, as triples gone forth."""
         return [triple for place in self.rows for triple in self._onward[place] if triple[2]]
 
+    def end(self, triple):
+        """The place to which the triple leads."""
+        return self._onward[triple[0]][triple][0]
+
     def turned(self, triple):
         """What the names become on the ring of the triple: there, forth, and back to the first place."""
         end, become = self._onward[triple[0]][triple]
@@ -96,8 +100,7 @@ class Tree:
 
     def ring(self, triple):
         """The ring of the triple."""
-        end, _ = self._onward[triple[0]][triple]
-        back = [(place, number, not forth) for place, number, forth in self.walk(end)[::-1]]
+        back = [(place, number, not forth) for place, number, forth in self.walk(self.end(triple))[::-1]]
         return self.walk(triple[0]) + (triple,) + tuple(back)
 
 

@@ -76,3 +76,19 @@ def names_of(steps):
     made = [step[1] for step in steps if step[0] == "make"]
     read = [name for step in steps for name in reads_of(step)]
     return sorted(set(made + read))
+
+
+def with_goals(step, goals):
+    """The step with other goals, as many as it has."""
+    if step[0] == "end":
+        return step
+    if step[0] == "test":
+        return step[:2] + (tuple(goals),)
+    return step[:-1] + (goals[0],)
+
+
+def unbounded(steps):
+    """The program of these steps, however many: they are bounded only where a program is constructed."""
+    program = Program((("end",),))
+    program.steps = steps
+    return program

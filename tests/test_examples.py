@@ -4,14 +4,18 @@ import unittest
 
 from fullbelts.counting import many_seatings
 from fullbelts.denials import is_denial
+from fullbelts.errors import NotStrong
 from fullbelts.lots import lots
 from fullbelts.machines import Machine, carried, put
 from fullbelts.pieces import heirs, pieces
 from fullbelts.programs import Program
 from fullbelts.refuting import refutation
+from fullbelts.rings import ring_carries
 from fullbelts.seatings import seating
 from fullbelts.shapes import shapes
+from fullbelts.shortest import least_carries
 from fullbelts.tables import table
+from fullbelts.unrolling import copies
 from fullbelts.verdicts import enough
 from fullbelts.walks import renamings
 from fullbelts.wants import need, wanted
@@ -63,6 +67,19 @@ class Examples(unittest.TestCase):
 
     def test_e10(self):
         self.assertEqual(shapes(s()), [(2,)])
+
+    def test_e11(self):
+        ring = ((2, 0, True), (3, 0, True), (4, 0, True), (5, 0, True))
+        self.assertEqual(ring_carries(s(), TWO, seating(s(), TWO), 2, ring), (0,))
+
+    def test_e12(self):
+        self.assertEqual(copies(Program(s().steps[:6] + (("end",),)), PLAIN, 0), 2)
+        with self.assertRaises(NotStrong):
+            copies(s(), PLAIN, 0)
+
+    def test_e13(self):
+        self.assertEqual(least_carries((("x", "y"),), (("y", "x"),)), 1)
+        self.assertIsNone(least_carries((("x",), ("y",)), (("y",), ("x",))))
 
 
 if __name__ == "__main__":

@@ -26,7 +26,16 @@ INTERFACE = {
     "counting": {"many_seatings": 3, "seating_at": 4},
     "denials": {"denial": 2, "is_denial": 3},
     "verdicts": {"enough": 2},
-    "shapes": {"shapes": 1, "fewest_belts": 1, "over": 2, "parting": 2}}
+    "shapes": {"shapes": 1, "fewest_belts": 1, "over": 2, "parting": 2},
+    "shuffles": {"shuffled": 2},
+    "shortest": {"least_carries": 2, "shortest": 2},
+    "makers": {"code_for": 2, "code_with": 3, "spare_code": 2, "seats": 1},
+    "rings": {"ring_carries": 5, "sparing_code": 5},
+    "unrolling": {"is_unrolling": 2, "copies": 3, "unrolled": 2},
+    "straights": {"cheapest": 2, "heights": 2, "is_floor": 4},
+    "texts": {"program_text": 1, "machine_text": 1, "code_text": 1},
+    "reading": {"read_program": 1, "read_machine": 1, "read_code": 3},
+    "desks": {"Desk": ("tell", "undoable")}}
 
 LIBRARY = {"heapq", "math", "itertools", "collections", "__future__"}
 
