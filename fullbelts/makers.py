@@ -1,8 +1,8 @@
 """Right codes, made for a program and a machine, and the seatings that they have."""
 
-from fullbelts.errors import BadMachine, NoSeating, NotRight, TooSmall
+from fullbelts.errors import NoSeating, NotRight, TooSmall
 from fullbelts.homes import code_of, homes_for
-from fullbelts.machines import Machine, are_lengths
+from fullbelts.machines import Machine
 from fullbelts.pieces import check_size, full_names
 from fullbelts.seatings import is_seating, seating
 from fullbelts.tables import table
@@ -33,8 +33,6 @@ def seated_code(program, machine, seated):
 
 def spare_code(program, belts):
     """A right code for the machine of these belts, which has more rooms than are needed."""
-    if not are_lengths(belts):
-        raise BadMachine()
     machine = Machine(belts)
     least = need(program) + 1
     if machine.size < least:

@@ -83,8 +83,8 @@ def rooms_of(holding):
 
 def best_turn(row, aims):
     """By how many rooms a belt moves on so that the most of its names come to where they are wanted."""
-    turns = list(range(len(row)))
-    return max(turns, key=lambda turn: many_home(row[len(row) - turn:] + row[:len(row) - turn], aims))
+    many = len(row)
+    return max(list(range(many)), key=lambda turn: many_home(row[many - turn:] + row[:many - turn], aims))
 
 
 def many_home(row, aims):

@@ -4,7 +4,7 @@ from fullbelts.codes import Code, flat
 from fullbelts.errors import NotStraight, TooLarge
 from fullbelts.homes import behind_step
 from fullbelts.kinds import is_integer, is_number, is_tuple
-from fullbelts.machines import empty, is_holding, lengths_of, pushed
+from fullbelts.machines import empty, is_holding, lengths_of
 from fullbelts.programs import goals_of, reads_of
 from fullbelts.shortest import carried_on
 from fullbelts.shuffles import rooms_of
@@ -23,7 +23,7 @@ class Stands:
         self.begin = (0, empty(machine))
         self.last = len(program.steps) - 1
         # What is carried hangs on the holding alone: many places share it.
-        self._behind = {}
+        self._carried_on = {}
 
     def is_stand(self, thing):
         if not is_tuple(thing, 2, 2) or not is_number(thing[0], len(self._steps)):
@@ -52,9 +52,9 @@ class Stands:
         place, holding = stand
         if place == 0:
             return {}
-        if holding not in self._behind:
-            self._behind[holding] = {behind: carry for carry, behind in carried_on(holding)}
-        carried = self._behind[holding]
+        if holding not in self._carried_on:
+            self._carried_on[holding] = {behind: carry for carry, behind in carried_on(holding)}
+        carried = self._carried_on[holding]
         return {(place, behind): carried[behind] for behind in carried}
 
     def ahead(self, stand):
@@ -88,7 +88,8 @@ def heights_of(stands):
     for layer in layers(stands)[::-1]:
         # Steps lead to the next place alone, whose heights are found already.
         first = {stand: height_by_step(stands, found, stand) for stand in layer}
-        found.update(lowered(stands, first))
+        for stand, height in lowered(stands, first).items():
+            found[stand] = height
     return found
 
 
@@ -111,7 +112,7 @@ def carried_from(stands, begins):
         stand = rest.pop()
         if stand not in seen:
             seen[stand] = True
-            rest.extend(stands.by_carry(stand))
+            rest.extend(list(stands.by_carry(stand)))
     return list(seen)
 
 

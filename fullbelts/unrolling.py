@@ -23,9 +23,8 @@ def is_unrolling(program, thing):
 
 
 def is_unrolled(step, first, origins):
-    """Whether a step is the first one but for its goals, and their origins are the first one's goals."""
-    goals = [origins[goal] for goal in goals_of(step)]
-    return len(goals) == len(goals_of(first)) and with_goals(step, goals) == first
+    """Whether a step is the first one when its goals are replaced by their origins."""
+    return with_goals(step, [origins[goal] for goal in goals_of(step)]) == first
 
 
 def copies(program, machine, number):
@@ -73,26 +72,25 @@ def least_orbit(turns, lengths):
     for rounds in fillings(turns.tree.names, lengths, []):
         if rounds not in seen:
             found = orbit(rounds, turns.turns)
-            seen.update({other: True for other in found})
+            for other in found:
+                seen[other] = True
             if best is None or len(found) < len(best):
                 best = found
     return best
 
 
 def orbit(rounds, turns):
-    """All tuples of rounds to which the turns lead these; they come back by themselves, as turns have an end."""
-    seen = {rounds: True}
-    found = [rounds]
-    done = 0
-    while done < len(found):
-        at = found[done]
-        done += 1
+    """All tuples of rounds to which the turns lead these; none need be done back, as turns have an end."""
+    found = {rounds: True}
+    rest = [rounds]
+    while rest:
+        at = rest.pop()
         for turn in turns:
             behind = plain_rounds(at, turn)
-            if behind not in seen:
-                seen[behind] = True
-                found.append(behind)
-    return found
+            if behind not in found:
+                found[behind] = True
+                rest.append(behind)
+    return list(found)
 
 
 def unrolled(program, machine):

@@ -12,7 +12,7 @@ from fullbelts.steppers import Stepper
 from fullbelts.tables import table
 from fullbelts.verdicts import enough
 from fullbelts.wants import need, wanted
-from samples import all_faults, goals
+from samples import all_faults, outcome
 from wording import NAME, NUMBER, bad_machine_line, bad_program_line, told_lengths, told_steps
 
 FORMS = {
@@ -31,14 +31,6 @@ def made_code(program, machine):
     return CODES[key]
 
 
-def answer(call):
-    """What the call returns, or the class and the fields of its error."""
-    try:
-        return call()
-    except ValueError as error:
-        return type(error), vars(error)
-
-
 def words_or_none(words):
     return " ".join(words) or "none"
 
@@ -53,7 +45,7 @@ class Model:
 
     def tell(self, line):
         """The answer, or the class and the fields of the error."""
-        return answer(lambda: self.told(line))
+        return outcome(self.told, line)
 
     def undoable(self):
         return len(self.lines)
@@ -151,11 +143,6 @@ class Model:
         if word == "enough":
             return "yes" if enough(program, kept["machine"][parts[1]]) else "no"
         return words_or_none([",".join(map(str, shape)) for shape in shapes(program)])
-
-
-def ends(program):
-    """How many goals each place has."""
-    return [len(goals(step)) for step in program.steps]
 
 
 ERRORS = (BadMachine, BadNeed, BadProgram, BadText, Faulty, NoLine, NoName, NoPlace, NoneLed, NothingDone, NoWay, Over)

@@ -89,6 +89,14 @@ def raised(call, *arguments):
     return None
 
 
+def outcome(call, *arguments):
+    """What the call returns, or the class and the fields of its error."""
+    try:
+        return call(*arguments)
+    except ValueError as error:
+        return type(error), vars(error)
+
+
 def is_name(thing):
     return type(thing) is str and re.fullmatch("[a-z]{1,8}", thing) is not None
 

@@ -1,7 +1,7 @@
 import random
 import unittest
 
-from desking import ERRORS, Model, answer
+from desking import ERRORS, Model
 from fullbelts.desks import Desk
 from fullbelts.errors import (
     BadMachine, BadNeed, BadProgram, BadText, Faulty, NoLine, NoName, NoneLed, NoPlace, NothingDone, NoWay, Over)
@@ -13,7 +13,7 @@ from fullbelts.steppers import Stepper
 from fullbelts.texts import machine_text, program_text
 from fullbelts.wants import wanted
 from making import star
-from samples import check_unchanged, faultless_programs, odd_things, raised, random_programs, s
+from samples import check_unchanged, faultless_programs, odd_things, outcome, raised, random_programs, s
 from straight import straight_programs
 from turners import turner_of
 from turning import shapes_of_size
@@ -279,7 +279,7 @@ class Sessions(unittest.TestCase):
             rng, desk, model = random.Random(seed), Desk(), Model()
             for _ in range(150):
                 line = random_line(rng)
-                found = answer(lambda: desk.tell(line))
+                found = outcome(desk.tell, line)
                 self.assertEqual(found, model.tell(line), (seed, line, model.lines))
                 self.assertEqual(desk.undoable(), model.undoable())
                 if type(found) is tuple:
@@ -289,7 +289,7 @@ class Sessions(unittest.TestCase):
             while model.undoable():
                 self.assertEqual(desk.tell("undo"), model.tell("undo"))
                 for line in ("names", "look", "right a", "need a", "enough a b"):
-                    self.assertEqual(answer(lambda: desk.tell(line)), model.tell(line))
+                    self.assertEqual(outcome(desk.tell, line), model.tell(line))
             self.assertEqual(desk.undoable(), 0)
         self.assertGreater(min(told.values()), 8, told)
         self.assertGreater(min(errors.values()), 5, errors)

@@ -8,20 +8,13 @@ from fullbelts.programs import Program
 from fullbelts.reading import read_code, read_machine, read_program
 from fullbelts.texts import code_text, machine_text, program_text
 from reckoning import many_codes
-from samples import S_STEPS, c, check_unchanged, forms, grown, odd_things, raised, random_programs, s
+from samples import (
+    S_STEPS, c, check_unchanged, forms, grown, odd_things, outcome, raised, random_programs, s)
 from test_texts import C_TEXT, FORMS_TEXT, S_TEXT
 from wording import (
     bad_code_line, bad_machine_line, bad_program_line, changed_text, told_code, told_lengths, told_steps)
 
 TWO = Machine((2,))
-
-
-def made(call, *arguments):
-    """What the call returns, or the class and the fields of its error."""
-    try:
-        return call(*arguments)
-    except ValueError as error:
-        return type(error), vars(error)
 
 
 class Reading(unittest.TestCase):
@@ -99,7 +92,7 @@ class Programs(Reading):
                 self.bad_text(line, read_program, text)
                 told[BadText] += 1
             else:
-                found, expected = made(read_program, text), made(Program, told_steps(text))
+                found, expected = outcome(read_program, text), outcome(Program, told_steps(text))
                 self.assertTrue(found == expected)
                 told[type(found) if type(found) is Program else found[0]] += 1
         self.assertGreater(min(told.values()), 30)
@@ -144,7 +137,7 @@ class Machines(Reading):
                 self.bad_text(line, read_machine, text)
                 told[BadText] += 1
             else:
-                found, expected = made(read_machine, text), made(Machine, told_lengths(text))
+                found, expected = outcome(read_machine, text), outcome(Machine, told_lengths(text))
                 self.assertTrue(found == expected)
                 told[Machine if type(found) is Machine else found[0]] += 1
         self.assertGreater(min(told.values()), 30)
@@ -236,8 +229,8 @@ class Codes(Reading):
                 self.bad_text(line, read_code, code.program, code.machine, text)
                 told[BadText] += 1
             else:
-                found = made(read_code, code.program, code.machine, text)
-                self.assertTrue(found == made(Code, code.program, code.machine, *told_code(text)))
+                found = outcome(read_code, code.program, code.machine, text)
+                self.assertTrue(found == outcome(Code, code.program, code.machine, *told_code(text)))
                 told[Code if type(found) is Code else found[0]] += 1
         self.assertGreater(min(told.values()), 30)
 

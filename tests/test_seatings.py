@@ -6,6 +6,7 @@ from fullbelts.lots import deal, lots
 from fullbelts.machines import Machine
 from fullbelts.programs import Program
 from fullbelts.seatings import is_seating, seating
+from making import turned
 from samples import check_unchanged, grown, odd_things, raised, s
 from turners import (
     AT_A_MAKE, BOTH, FORKED, ITSELF, LONE, NOWHERE, SEVEN, SIX, WORDS, apart, changed_turners, random_turners,
@@ -19,15 +20,6 @@ TWO, PLAIN = Machine((2,)), Machine((1, 1))
 
 # A piece whose names turn on a belt of two beside names that stay, and one whose names turn by pairs.
 SEVERAL = apart([turner_of("bacd"), turner_of("badc")])
-
-
-def turned(rng, seats):
-    """The same seating with each round turned as it comes."""
-    found = {}
-    for place, rounds in seats.items():
-        cuts = [rng.randrange(len(row)) for row in rounds]
-        found[place] = tuple([row[at:] + row[:at] for row, at in zip(rounds, cuts)])
-    return found
 
 
 def changed(rng, seats, names):

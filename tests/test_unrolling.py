@@ -18,7 +18,7 @@ from fullbelts.webs import reached, route_to
 from making import check_by_states, check_right, cut_off, star
 from samples import S_STEPS, check_unchanged, forms, goals, grown, odd_things, raised, random_programs, s
 from turners import (
-    AT_A_MAKE, BOTH, FORKED, ITSELF, LONE, NOWHERE, SEVEN, apart, changed_turners, random_turners, turner_of, wide)
+    AT_A_MAKE, BOTH, FORKED, ITSELF, LONE, NOWHERE, SEVEN, apart, changed_turners, random_turners, wide)
 from turning import (
     all_rounds, belts_of_size, kind_raised, replaced, shapes_of_size, slow_full, slow_moves, slow_need, slow_pieces,
     slow_renamings)
@@ -28,7 +28,10 @@ TWO, PLAIN = Machine((2,)), Machine((1, 1))
 # s without its tells: full ways lead round from each place of its piece to each other one.
 STRONG = Program(S_STEPS[:6] + (("end",),))
 
-SAMPLES = [STRONG, s(), LONE, NOWHERE, AT_A_MAKE, BOTH, FORKED, ITSELF, apart([STRONG, s()]), apart([STRONG, STRONG]),
+# Full ways lead from all places of the piece to its first one, and none from there.
+SINK = Program((("make", "x", (), 1), ("make", "y", (), 3), ("tell", "x", 4), ("test", "x", (3, 2)), ("tell", "y", 5), ("end",)))
+
+SAMPLES = [STRONG, SINK, s(), LONE, NOWHERE, AT_A_MAKE, BOTH, FORKED, ITSELF, apart([STRONG, s()]), apart([STRONG, STRONG]),
            star(["bca"]), star(["bca", "bac"]), star(["bac", "acb"]), star(["bcda"]), star(["badc", "abdc"]),
            star(["bacd", "acbd"]), star(["bcda", "bacd"]), cut_off(STRONG, (("make", "x", ("q",), 0), ("go", 1)))]
 PROGRAMS = SAMPLES + list(changed_turners(120, 21)[:50]) + list(random_turners(4, 30, 37))
@@ -197,6 +200,8 @@ class Copies(unittest.TestCase):
         self.assertEqual(copies(STRONG, TWO, 0), 1)
         self.assertIs(kind_raised(copies, s(), PLAIN, 0), NotStrong)
         self.assertIs(kind_raised(copies, s(), TWO, 0), NotStrong)
+        self.assertEqual(pieces(SINK), [[2, 3]])
+        self.assertIs(kind_raised(copies, SINK, TWO, 0), NotStrong)
         self.assertEqual(copies(star(["bca", "bac"]), Machine((3,)), 0), 2)
         self.assertEqual(copies(star(["bca", "bac"]), Machine((2, 1)), 0), 3)
         self.assertEqual(copies(star(["bca", "bac"]), Machine((1, 1, 1)), 0), 6)

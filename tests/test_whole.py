@@ -31,7 +31,7 @@ from fullbelts.walks import renaming, renamings, ring_for, walk_end
 from fullbelts.wants import is_want_route, load, need, want_route, wanted
 from fullbelts.webs import fault_route, faults, goal, is_fault_route, led, reached, route_to
 from making import are_alike, star
-from samples import S_STEPS, c, faultless_programs, goals, odd_things, s
+from samples import S_STEPS, c, faultless_programs, goals, odd_things, outcome, s
 from straight import straight_programs
 from test_rings import plain_rings
 from turners import (
@@ -42,14 +42,6 @@ PROGRAMS = [LONE, NOWHERE, AT_A_MAKE, BOTH, FORKED, ITSELF, s(), star(["ba"]), s
             apart([s(), FORKED, BOTH]), turner_of("bacd"), *changed_turners(120, 21)[60:100], *random_turners(4, 30, 41),
             *[program for program in faultless_programs(40) if slow_need(program) > 0]]
 STRAIGHT = [program for program in straight_programs(20, 9, 5) if slow_need(program) <= 4]
-
-
-def outcome(call, *arguments):
-    """What the call returns, or the class and the fields of its error."""
-    try:
-        return call(*arguments)
-    except ValueError as error:
-        return type(error), vars(error)
 
 
 class Agreement(unittest.TestCase):
