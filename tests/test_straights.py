@@ -241,7 +241,8 @@ class IsFloor(unittest.TestCase):
             (1, (("b", None), (None, None))), (2, (("c", "a"), ("b", None))), (7, (("d", "d"), ("d", "d"))),
             (8, (("a", None), (None, None))), (0, (("a", None), (None, None))), (3, (("a", "a"), ("a", "c"))),
             (2, (("a",), ("b", None, None))), (2, (("a", "b"),)), (9, ((None, None), (None, None))),
-            (-1, ((None, None), (None, None))), (2, (("a", "b"), ("a", 0))), (4, (("d", "a"), ("b", "b")))]
+            (-1, ((None, None), (None, None))), (2, (("a", "b"), ("a", 0))), (4, (("d", "a"), ("b", "b"))),
+            (2, (("a", "b"), (None, None)), 0), (2,), ()]
         for stand in more:
             for value in (0, 1, None):
                 thing = {**found, stand: value}
